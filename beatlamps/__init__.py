@@ -1,0 +1,1 @@
+"""Beatlamps: rows, rings and floors of lamps that are turned by rules."""

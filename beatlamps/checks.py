@@ -1,0 +1,123 @@
+"""What values of the definitions are, and the errors for values that are none."""
+
+from beatlamps.errors import BadBeats, BadKind, BadPolynomial, BadRow, BadRule, BadSize, NotEven, OtherSize
+
+GREATEST_POWER = 400
+GREATEST_OFFSET = 6
+GREATEST_ROW = 24
+ENDLESS = 10 ** 30
+KINDS = ("ring", "walls")
+
+
+def is_integer(value):
+    """Whether it is an int that is not a bool."""
+    return isinstance(value, int) and not isinstance(value, bool)
+
+
+def is_between(value, least, greatest):
+    """Whether it is an integer within these bounds."""
+    return is_integer(value) and least <= value <= greatest
+
+
+def is_lot(value, least, greatest):
+    """Whether it is an ascending tuple of unlike integers within these bounds."""
+    if not isinstance(value, tuple):
+        return False
+    if not all([is_between(item, least, greatest) for item in value]):
+        return False
+    return all([value[at - 1] < value[at] for at in range(1, len(value))])
+
+
+def is_polynomial(value):
+    """Whether it is a polynomial."""
+    return is_lot(value, 0, GREATEST_POWER)
+
+
+def is_row(value):
+    """Whether it is a row."""
+    if not isinstance(value, str) or not 1 <= len(value) <= GREATEST_ROW:
+        return False
+    return all([sign in "01" for sign in value])
+
+
+def is_row_of(value, size):
+    """Whether it is a row of this size."""
+    return is_row(value) and len(value) == size
+
+
+def contrary(rule):
+    """The rule turned about."""
+    return tuple([-offset for offset in reversed(rule)])
+
+
+def need_polynomial(value):
+    """BadPolynomial unless it is one."""
+    if not is_polynomial(value):
+        raise BadPolynomial(value)
+
+
+def need_beats(value):
+    """BadBeats unless it is a number of beats from 0 to 10 ** 30."""
+    if not is_between(value, 0, ENDLESS):
+        raise BadBeats(value)
+
+
+def need_size(value, least, greatest):
+    """BadSize unless it is an integer within these bounds."""
+    if not is_between(value, least, greatest):
+        raise BadSize(value)
+
+
+def need_row_size(value):
+    """BadSize unless it is the size of a row."""
+    need_size(value, 1, GREATEST_ROW)
+
+
+def need_rule(value):
+    """BadRule unless it is a rule."""
+    if not is_lot(value, -GREATEST_OFFSET, GREATEST_OFFSET) or len(value) == 0:
+        raise BadRule(value)
+
+
+def need_even(rule):
+    """NotEven unless the rule is even."""
+    if contrary(rule) != rule:
+        raise NotEven(rule)
+
+
+def need_kind(value):
+    """BadKind unless it is a kind."""
+    if not isinstance(value, str) or value not in KINDS:
+        raise BadKind(value)
+
+
+def need_kind_and_rule(kind, rule):
+    """BadKind, then BadRule, then NotEven between walls: they come ahead of all other errors."""
+    need_kind(kind)
+    need_rule(rule)
+    if kind == "walls":
+        need_even(rule)
+
+
+def need_row(value):
+    """BadRow unless it is a row."""
+    if not is_row(value):
+        raise BadRow(value)
+
+
+def need_same_size(one, other):
+    """OtherSize, with the second row, unless both are of one size."""
+    if len(one) != len(other):
+        raise OtherSize(other)
+
+
+def need_with_row(kind, rule, row):
+    """The errors of kind, rule and row."""
+    need_kind_and_rule(kind, rule)
+    need_row(row)
+
+
+def need_with_size(kind, rule, size):
+    """The errors of kind, rule and size."""
+    need_kind_and_rule(kind, rule)
+    need_row_size(size)

@@ -1,0 +1,227 @@
+"""Slow, plain computations that know nothing of the package, and values of all kinds that are handed in."""
+
+from itertools import combinations, product
+
+from beatlamps.errors import BadRule, LampError
+
+
+def deep(many):
+    """A value nested so deep."""
+    value = 1
+    for at in range(many):
+        value = (value,) if at % 3 == 0 else [value] if at % 3 == 1 else {"a": value}
+    return value
+
+
+STRANGE = [None, True, False, {}, {0: 1}, {"ring": "110"}, [], [0, 1], ["110"], (None,), (True,), (False,), ((),),
+           (0, (1,)), ("0",), deep(30), deep(29), LampError((0, 1)), BadRule("1"), -1, 10 ** 39, "", "x", "0 1", "\n"]
+NO_INTEGERS = [value for value in STRANGE if value is True or value is False or not isinstance(value, int)]
+NO_INTEGERS = NO_INTEGERS + ["1", "0", (1,), [1], (0,)]
+NO_LOTS = STRANGE + [0, 1, 2, "0", "01", "(0, 1)", (1, 0), (0, 0), (0, 1, 1), (0, 2, 1), (0, True), (False, 1),
+                     (0, "1"), (0, None), ((0, 1),), ((0,), (1,)), [0], [[0]], (0, [1])]
+NO_POLYNOMIALS = NO_LOTS + [(-1,), (-1, 0), (401,), (0, 401), (10 ** 30,)]
+NO_RULES = NO_LOTS + [(), (-7,), (7,), (-7, 0), (0, 7), (-6, 0, 7), (1, -1), (10 ** 30,)]
+NO_KINDS = STRANGE + [0, 1, "Ring", "RING", "wall", "rings", "ring ", " walls", "tube", "ringwalls", ("ring",),
+                      ["walls"], (), (0,)]
+NO_ROWS = STRANGE + [0, 1, 110, "2", "012", "1 0", "01\n", "l0", "-1", "1" * 25, "0" * 25, "1" * 3000, ("1", "0"),
+                     ["1", "0"], (), (0, 1), ("110",)]
+NO_BEATS = NO_INTEGERS + [-1, -10 ** 30, 10 ** 30 + 1, 10 ** 39]
+NO_SIZES_30 = NO_INTEGERS + [0, -1, 10 ** 30 + 1]
+NO_ROW_SIZES = NO_INTEGERS + [0, -1, 25, 10 ** 30]
+UNEVEN = [(0, 1), (1,), (-1,), (-1, 0), (-6, -1, 1), (-6, 5), (-6, 0, 1, 6)]
+
+EVEN_RULES = []
+for many in range(1, 8):
+    for some in combinations(range(7), many):
+        EVEN_RULES.append(tuple(sorted({sign * offset for offset in some for sign in (-1, 1)})))
+RULES = [(-1, 1), (0, 1), (-1, 0, 1), (0,), (1,), (-6,), (6,), (-6, 6), (-6, 0, 6), (-5, 2), (-6, -3, 1, 5), (-2, 0, 3),
+         (0, 1, 2, 3), tuple(range(-6, 7)), tuple(range(-6, 6)), (-4, -2, 2, 4), (-3, 0, 3), (0, 6), (2, 4), (-6, -5)]
+SOME_EVEN = [rule for rule in RULES if tuple(sorted(-offset for offset in rule)) == rule] + [(-6, -1, 1, 6)]
+
+
+def odd_ones(items):
+    """The ascending tuple of the items that come an odd number of times."""
+    left = set()
+    for item in items:
+        left ^= {item}
+    return tuple(sorted(left))
+
+
+def slow_plus(one, other):
+    return odd_ones(one + other)
+
+
+def slow_times(one, other):
+    return odd_ones([first + second for first in one for second in other])
+
+
+def slow_rest(one, other):
+    while one and one[-1] >= other[-1]:
+        one = slow_plus(one, slow_times((one[-1] - other[-1],), other))
+    return one
+
+
+def slow_power(one, beats, modulo):
+    result = slow_rest((0,), modulo)
+    for _ in range(beats):
+        result = slow_rest(slow_times(result, one), modulo)
+    return result
+
+
+def all_polynomials(degree):
+    """All polynomials up to this degree, nought first, those of lesser degree ahead."""
+    return [odd_ones([at for at in range(degree + 1) if bits >> at & 1]) for bits in range(2 ** (degree + 1))]
+
+
+def degree(one):
+    return one[-1] if one else -1
+
+
+def slow_common(one, other):
+    """The one of greatest degree that divides both, by trying all."""
+    if one == other == ():
+        return ()
+    best = (0,)
+    for part in all_polynomials(max(degree(one), degree(other)))[1:]:
+        if slow_rest(one, part) == slow_rest(other, part) == () and degree(part) > degree(best):
+            best = part
+    return best
+
+
+def slow_is_plain(one):
+    if degree(one) < 1:
+        return False
+    return all(slow_rest(one, part) for part in all_polynomials(degree(one) - 1) if degree(part) >= 1)
+
+
+def slow_factors(one):
+    """The factors by trying all polynomials of no greater degree."""
+    found = []
+    for part in all_polynomials(degree(one)):
+        if slow_is_plain(part):
+            times, together = 0, part
+            while slow_rest(one, together) == ():
+                times, together = times + 1, slow_times(together, part)
+            if times:
+                found.append((part, times))
+    return tuple(sorted(found))
+
+
+def slow_measure(one):
+    """By going on from x to x until 1 comes."""
+    if one == (0,):
+        return 1
+    bits = sum(1 << at for at in one)
+    going, many = 1, 0
+    while True:
+        going, many = going << 1, many + 1
+        if going >> one[-1]:
+            going ^= bits
+        if going == 1:
+            return many
+
+
+def all_rows(size):
+    return ["".join(signs) for signs in product("01", repeat=size)]
+
+
+def slow_unfolded(row):
+    return "0" + row + "0" + row[::-1]
+
+
+def slow_ring_beat(rule, row, scale=1):
+    """A beat lamp by lamp; the offsets so many times as far."""
+    size = len(row)
+    return "".join(str(sum(row[(at + scale * offset) % size] == "1" for offset in rule) % 2) for at in range(size))
+
+
+def slow_beat(kind, rule, row):
+    if kind == "ring":
+        return slow_ring_beat(rule, row)
+    return slow_ring_beat(rule, slow_unfolded(row))[1:len(row) + 1]
+
+
+def slow_after(kind, rule, row, beats):
+    for _ in range(beats):
+        row = slow_beat(kind, rule, row)
+    return row
+
+
+def slow_long_after(kind, rule, row, beats):
+    """Many beats: 2 ** k of them are one beat by offsets 2 ** k times as far, as all squares modulo two are."""
+    whole = row if kind == "ring" else slow_unfolded(row)
+    for at in range(beats.bit_length()):
+        if beats >> at & 1:
+            whole = slow_ring_beat(rule, whole, 2 ** at)
+    return whole if kind == "ring" else whole[1:len(row) + 1]
+
+
+def slow_orbit(kind, rule, row):
+    """(rows, tail): all rows that come of it until one comes again, and how many are ahead of that one."""
+    rows = []
+    while row not in rows:
+        rows.append(row)
+        row = slow_beat(kind, rule, row)
+    return rows, rows.index(row)
+
+
+def slow_sum(one, other):
+    return "".join(str(int(a != b)) for a, b in zip(one, other))
+
+
+def meets_oddly(one, other):
+    return sum(a == b == "1" for a, b in zip(one, other)) % 2 == 1
+
+
+def all_subset_sums(rows, size):
+    """The list of the sums of all some or none of these rows."""
+    sums = ["0" * size]
+    for row in rows:
+        sums = sums + [slow_sum(row, other) for other in sums]
+    return sums
+
+
+def independent(rows, size):
+    """Whether no sum of one or more of these rows is dark."""
+    return all_subset_sums(rows, size).count("0" * size) == 1
+
+
+def kinds_and_rules(rules=RULES, even=SOME_EVEN):
+    return [("ring", rule) for rule in rules] + [("walls", rule) for rule in even]
+
+
+def caught(function, *values, **named):
+    """The error that the call raises, or None."""
+    try:
+        function(*values, **named)
+    except LampError as error:
+        return error
+    return None
+
+
+def check_refused(case, function, values, error, told):
+    """Whether the call is refused by just this error and value, by position and by name."""
+    for raised in (caught(function, *values.values()), caught(function, **values)):
+        case.assertIs(raised.__class__, error, (function.__name__, values))
+        case.assertIs(raised.value, told) if not isinstance(told, int) else case.assertEqual(raised.value, told)
+        case.assertIs(raised.value.__class__, told.__class__)
+
+
+def check_refusals(case, function, good, wrongs):
+    """All refusals of a function: good are right values by parameter, in sequence; wrongs are (parameter, error,
+    values), or (parameter, error, values, told), in the sequence in which they apply."""
+    function(*good.values())
+    function(**good)
+    for at, (name, error, values, *told) in enumerate(wrongs):
+        for value in values:
+            check_refused(case, function, {**good, name: value}, error, told[0] if told else value)
+        value = values[at % len(values)]
+        late = {}
+        for later, _, others, *_ in wrongs[at + 1:]:
+            if later != name:
+                for other in others[:3] + others[-3:]:
+                    both = {**good, name: value, later: other}
+                    check_refused(case, function, both, error, told[0] if told else value)
+                late[later] = others[0]
+        everything = {**good, **late, name: value}
+        check_refused(case, function, everything, error, told[0] if told else value)

@@ -1,0 +1,71 @@
+"""The examples of points 4 to 12, as the document prints them, and those of the README."""
+
+import doctest
+import unittest
+from pathlib import Path
+
+README = Path(__file__).resolve().parent.parent / "README.md"
+
+EXAMPLES = """
+>>> from beatlamps.polys import common, core, parted, plus, power, times
+>>> [plus((0, 1), (1, 2)), times((0, 1), (0, 1)), parted((0, 3), (0, 1)), common((0, 2), (0, 3))[0], core((2, 5))]
+[(0, 2), (0, 2), ((0, 1, 2), ()), (0, 1), (2, (0, 3))]
+>>> [power((1,), 10 ** 30, (0, 1, 2)), power((0, 1), 4, (0, 7)), power((0, 1), 0, (0,))]
+[(1,), (0, 4), ()]
+
+>>> from beatlamps.measures import measure, measured, shared
+>>> from beatlamps.plain import factors, is_plain, root
+>>> [is_plain((0, 1, 2)), factors((0, 4)), factors((1, 4)), root((0, 2, 4)), root((0, 1))]
+[True, (((0, 1), 4),), (((0, 1), 1), ((0, 1, 2), 1), ((1,), 1)), (0, 1, 2), None]
+>>> [measure((0, 1, 2)), measure((0, 2)), measured((1, 2, 3)), shared((0, 1, 2), 6), shared((0, 2, 4), 6 * 10 ** 29)]
+[3, 2, (((0, 1, 2), 1, 3),), 2, 4]
+
+>>> from beatlamps.rules import in_cross, is_even, joined, of_cross, polynomial, turned
+>>> [polynomial((-1, 0, 2)), turned((-1, 0, 2)), is_even((-2, 0, 2)), joined((-1, 1), (-1, 1)), joined((0, 1), (0, 1, 2))]
+[(-1, (0, 1, 3)), (-2, 0, 1), True, (-2, 2), (0, 3)]
+>>> [in_cross((-2, 0, 2)), of_cross((0, 1)), of_cross((3,)), in_cross((0,))]
+[(0, 2), (-1, 0, 1), (-3, -1, 1, 3), (0,)]
+
+>>> from beatlamps.rows import after, beat_offsets, summed, unfolded, wall_polynomial
+>>> [after('ring', (-1, 1), '0010000', 1), after('walls', (-1, 1), '1000', 2), after('ring', (0, 1), '00001', 4), unfolded('110')]
+['0101000', '1010', '10001', '01100011']
+>>> [wall_polynomial(3), wall_polynomial(4), beat_offsets((-1, 0, 1), 7, 10 ** 30), summed('110', '011')]
+[(3,), (0, 2, 4), (0, 1, 6), '101']
+
+>>> from beatlamps.alike import alike_on, alike_sizes
+>>> [alike_sizes('ring', (-1, 1), (-2, 2)), alike_sizes('ring', (0, 6), (0, 2)), alike_sizes('walls', (-1, 0, 1), (-2, 0, 2)), alike_on('ring', (0, 1), (0, 1, 2, 3), 2)]
+[('sizes', (1, 2, 3)), ('sizes', (1, 2, 4)), ('sizes', (1,)), False]
+
+>>> from beatlamps.gardens import ahead, all_ahead, lost, shows_ahead, undoing
+>>> [ahead('ring', (-1, 1), '1000')[0], shows_ahead('ring', (-1, 1), '1010', ('row', '0100')), lost('ring', (-1, 0, 1), 6), lost('walls', (-1, 1), 3)]
+['garden', True, 2, 1]
+>>> [all_ahead('ring', (-1, 1), '1010'), undoing((-1, 0, 1), 4), undoing((1,), 5)]
+[('0001', '0100', '1011', '1110'), (0, 1, 3), (4,)]
+"""
+
+# The document prints these beside what tails and periods tell.
+OWN = """
+>>> from beatlamps.own import own, own_row
+>>> [own('ring', (-1, 1), 3), own('walls', (-1, 1), 4), own_row('ring', (-1, 1), '110')]
+[(1, 2), (0, 2, 4), (0, 1)]
+"""
+
+
+class Examples(unittest.TestCase):
+    def check(self, text, many):
+        examples = doctest.DocTestParser().get_doctest(text, {}, "examples", None, 0)
+        outcome = doctest.DocTestRunner(verbose=False).run(examples)
+        self.assertEqual((outcome.failed, outcome.attempted), (0, many))
+
+    def test_points_4_to_12(self):
+        self.check(EXAMPLES, 18)
+
+    def test_own(self):
+        self.check(OWN, 2)
+
+    def test_readme(self):
+        self.check(README.read_text().replace("```", ""), 6)
+
+
+if __name__ == "__main__":
+    unittest.main()

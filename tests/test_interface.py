@@ -1,0 +1,76 @@
+"""The interface of the parts that have landed: names, parameters, files, and what holds of all of them."""
+
+import ast
+import unittest
+from importlib import import_module
+from pathlib import Path
+
+PACKAGE = Path(__file__).resolve().parent.parent / "beatlamps"
+INTERFACE = {
+    "polys": "plus(one, other) times(one, other) parted(one, other) common(one, other)"
+             " shows_common(one, other, value) core(one) power(one, beats, modulo)",
+    "plain": "is_plain(one) factors(one) root(one)",
+    "measures": "measure(one) measured(one) shared(one, size)",
+    "rules": "polynomial(rule) turned(rule) is_even(rule) joined(one, other) in_cross(rule) of_cross(powers)",
+    "rows": "after(kind, rule, row, beats) unfolded(row) summed(one, other) beat_offsets(rule, size, beats)"
+            " wall_polynomial(size)",
+    "alike": "alike_on(kind, one, other, size) alike_sizes(kind, one, other)",
+    "gardens": "ahead(kind, rule, row) shows_ahead(kind, rule, row, value) lost(kind, rule, size)"
+               " dark_rows(kind, rule, size) shows_dark_rows(kind, rule, size, value) all_marks(kind, rule, size)"
+               " shows_all_marks(kind, rule, size, value) all_ahead(kind, rule, row) undoing(rule, size)",
+    "deeper": "depth(kind, rule, row) shows_depth(kind, rule, row, value) before(kind, rule, row, beats)"
+              " shows_before(kind, rule, row, beats, value)",
+    "own": "own_row(kind, rule, row) own(kind, rule, size)",
+}
+RIGHT = {"kind": "walls", "rule": (-1, 1), "row": "101", "size": 3, "beats": 5, "one": (-1, 1), "other": (-1, 0, 1),
+         "powers": (0, 1), "modulo": (0, 2), "value": None}
+POLYNOMIALS = {**RIGHT, "one": (0, 2), "other": (0, 3)}
+ROWS = {**RIGHT, "one": "110", "other": "011"}
+
+
+def told():
+    """All (file, name, parameters) of the interface."""
+    for file, text in INTERFACE.items():
+        for form in text.replace(", ", ",").split():
+            name, parameters = form.rstrip(")").split("(")
+            yield file, name, parameters.split(",")
+
+
+def right_values(file, name, parameters):
+    values = ROWS if name == "summed" else POLYNOMIALS if file in ("polys", "plain", "measures") else RIGHT
+    if name == "undoing":
+        values = {**values, "rule": (-1, 0, 1), "size": 4}
+    return {parameter: values[parameter] for parameter in parameters}
+
+
+def no_lists(value):
+    if isinstance(value, tuple):
+        return all([no_lists(part) for part in value])
+    return value is None or isinstance(value, (bool, int, str))
+
+
+class Interface(unittest.TestCase):
+    def test_names_parameters_and_files(self):
+        for file, name, parameters in told():
+            tree = ast.parse((PACKAGE / f"{file}.py").read_text())
+            found = [node for node in tree.body if isinstance(node, ast.FunctionDef) and node.name == name]
+            self.assertEqual(len(found), 1, name)
+            self.assertEqual([argument.arg for argument in found[0].args.args], parameters, name)
+            self.assertEqual(found[0].args.defaults, [])
+
+    def test_calls_are_alike_and_change_nothing(self):
+        for file, name, parameters in told():
+            function = getattr(import_module(f"beatlamps.{file}"), name)
+            values = right_values(file, name, parameters)
+            held = dict(values)
+            result = function(*values.values())
+            self.assertEqual(function(**values), result)
+            self.assertEqual(function(**dict(reversed(values.items()))), result)
+            self.assertEqual(values, held)
+            self.assertTrue(no_lists(result), name)
+            if name.startswith("shows_") or name.startswith("is_") or name == "alike_on":
+                self.assertIs(result.__class__, bool)
+
+
+if __name__ == "__main__":
+    unittest.main()
