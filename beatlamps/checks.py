@@ -1,12 +1,15 @@
 """What values of the definitions are, and the errors for values that are none."""
 
-from beatlamps.errors import BadBeats, BadKind, BadPolynomial, BadRow, BadRule, BadSize, NotEven, OtherSize
+from beatlamps.errors import BadBeats, BadFloor, BadKind, BadMiddle, BadNumber, BadPolynomial, BadRow, BadRule
+from beatlamps.errors import BadSides, BadSize, NotEven, OtherSize
 
 GREATEST_POWER = 400
 GREATEST_OFFSET = 6
 GREATEST_ROW = 24
+GREATEST_FLOOR = 8
 ENDLESS = 10 ** 30
 KINDS = ("ring", "walls")
+SIDES = ("walls", "tube", "ring")
 
 
 def is_integer(value):
@@ -45,6 +48,20 @@ def is_row_of(value, size):
     return is_row(value) and len(value) == size
 
 
+def is_floor(value, greatest):
+    """Whether it is a tuple of rows of one size, no more of them, nor greater ones, than told."""
+    if not isinstance(value, tuple) or not 1 <= len(value) <= greatest:
+        return False
+    if not all([is_row(row) and len(row) <= greatest for row in value]):
+        return False
+    return all([len(row) == len(value[0]) for row in value])
+
+
+def is_floor_of(value, high, wide):
+    """Whether it is a floor so high and so wide."""
+    return is_floor(value, GREATEST_FLOOR) and len(value) == high and len(value[0]) == wide
+
+
 def contrary(rule):
     """The rule turned about."""
     return tuple([-offset for offset in reversed(rule)])
@@ -71,6 +88,12 @@ def need_size(value, least, greatest):
 def need_row_size(value):
     """BadSize unless it is the size of a row."""
     need_size(value, 1, GREATEST_ROW)
+
+
+def need_number(value, least, greatest):
+    """BadNumber unless it is an integer within these bounds."""
+    if not is_between(value, least, greatest):
+        raise BadNumber(value)
 
 
 def need_rule(value):
@@ -121,3 +144,27 @@ def need_with_size(kind, rule, size):
     """The errors of kind, rule and size."""
     need_kind_and_rule(kind, rule)
     need_row_size(size)
+
+
+def need_sides(value):
+    """BadSides unless it tells what stands round a floor."""
+    if not isinstance(value, str) or value not in SIDES:
+        raise BadSides(value)
+
+
+def need_middle(value):
+    """BadMiddle unless it is True or False."""
+    if not isinstance(value, bool):
+        raise BadMiddle(value)
+
+
+def need_floor(value):
+    """BadFloor unless it is a floor."""
+    if not is_floor(value, GREATEST_FLOOR):
+        raise BadFloor(value)
+
+
+def need_floor_size(high, wide):
+    """BadSize, for high, then for wide, unless they are those of a floor."""
+    need_size(high, 1, GREATEST_FLOOR)
+    need_size(wide, 1, GREATEST_FLOOR)

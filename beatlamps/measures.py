@@ -26,15 +26,19 @@ def primes_of(number):
     return primes
 
 
+def least_part(number, holds):
+    """The number from 1 on for whose multiples alone it holds; it holds for this one."""
+    for prime in primes_of(number):
+        while number % prime == 0 and holds(number // prime):
+            number //= prime
+    return number
+
+
 def plain_measure(factor):
     """The measure of a plain polynomial other than x."""
     bits = as_bits(factor)
     # The powers of x go round in a field of 2 ** degree, so their number divides one less than that.
-    number = (1 << degree_of(bits)) - 1
-    for prime in primes_of(number):
-        while number % prime == 0 and power_rest(X, number // prime, bits) == 1:
-            number //= prime
-    return number
+    return least_part((1 << degree_of(bits)) - 1, lambda beats: power_rest(X, beats, bits) == 1)
 
 
 def measured(one):

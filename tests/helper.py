@@ -28,6 +28,17 @@ NO_ROWS = STRANGE + [0, 1, 110, "2", "012", "1 0", "01\n", "l0", "-1", "1" * 25,
 NO_BEATS = NO_INTEGERS + [-1, -10 ** 30, 10 ** 30 + 1, 10 ** 39]
 NO_SIZES_30 = NO_INTEGERS + [0, -1, 10 ** 30 + 1]
 NO_ROW_SIZES = NO_INTEGERS + [0, -1, 25, 10 ** 30]
+NO_FLOOR_SIZES = NO_INTEGERS + [0, -1, 9, 24, 10 ** 30]
+NO_NUMBERS = NO_INTEGERS + [0, -1, 13, 10 ** 30]
+NO_SIDES = STRANGE + [0, 1, "Walls", "WALLS", "wall", "rings", "tubes", "tube ", " ring", "wallstube", "torus", ("ring",),
+                      ["walls"], (), (0,)]
+NO_MIDDLES = [value for value in STRANGE if value is not True and value is not False]
+NO_MIDDLES = NO_MIDDLES + [0, 1, 2, "True", "False", "1", ("True",), [True], [False], (True, False)]
+NO_LARGE_FLOORS = [value for value in STRANGE if value != ("0",)]
+NO_LARGE_FLOORS = NO_LARGE_FLOORS + ["1", "11", 1, 0, (), ("",), ("", ""), ("1", ""), ("1", "10"), ("10", "1"), ("2",), ("1 ",),
+                             ["1"], ["10", "11"], (["1"],), (("1",),), ("1", None), ("1", 1), (1, 1), ("1", True),
+                             {"1": "1"}, ("10", "1\n"), ("10", "11", "1"), ("1" * 25,), ("1",) * 25, ("1" * 3000,)]
+NO_FLOORS = NO_LARGE_FLOORS + [("1" * 9,), ("1",) * 9, ("1" * 24,), ("0" * 9,) * 8, ("0" * 8,) * 9, ("1",) * 24]
 UNEVEN = [(0, 1), (1,), (-1,), (-1, 0), (-6, -1, 1), (-6, 5), (-6, 0, 1, 6)]
 
 EVEN_RULES = []
@@ -188,6 +199,73 @@ def independent(rows, size):
 
 def kinds_and_rules(rules=RULES, even=SOME_EVEN):
     return [("ring", rule) for rule in rules] + [("walls", rule) for rule in even]
+
+
+def slow_neighbours(sides, high, wide, at, place):
+    """The neighbours of this place, as often as each of them comes."""
+    found = []
+    for row, column in ((at - 1, place), (at + 1, place), (at, place - 1), (at, place + 1)):
+        if sides == "ring":
+            row %= high
+        if sides != "walls":
+            column %= wide
+        if 0 <= row < high and 0 <= column < wide:
+            found.append((row, column))
+    return found
+
+
+def slow_pressed(sides, middle, presses):
+    """Lamp by lamp: what these presses make of the dark floor."""
+    high, wide = len(presses), len(presses[0])
+    on = [[0] * wide for _ in range(high)]
+    for at, row in enumerate(presses):
+        for place, sign in enumerate(row):
+            if sign == "1":
+                for there, column in slow_neighbours(sides, high, wide, at, place) + [(at, place)] * middle:
+                    on[there][column] ^= 1
+    return tuple("".join(map(str, row)) for row in on)
+
+
+def all_floors(high, wide):
+    return list(product(all_rows(wide), repeat=high))
+
+
+def dark_floor(high, wide):
+    return ("0" * wide,) * high
+
+
+def floor_sum(one, other):
+    return tuple(slow_sum(row, there) for row, there in zip(one, other))
+
+
+def floors_meet_oddly(one, other):
+    return meets_oddly("".join(one), "".join(other))
+
+
+def slow_rank(rows):
+    """How many of the rows are no sums of ones ahead of them, by striking out."""
+    pivots = []
+    for row in rows:
+        for pivot in pivots:
+            if row[pivot.index("1")] == "1":
+                row = slow_sum(row, pivot)
+        if "1" in row:
+            pivots.append(row)
+    return len(pivots)
+
+
+def single_floors(high, wide):
+    """All floors with one lamp on."""
+    for at in range(high * wide):
+        text = "0" * at + "1" + "0" * (high * wide - at - 1)
+        yield tuple(text[start:start + wide] for start in range(0, high * wide, wide))
+
+
+def euclid(one, other):
+    """The greatest common divisor by parting again and again."""
+    while other:
+        one, other = other, slow_rest(one, other)
+    return one
 
 
 def caught(function, *values, **named):

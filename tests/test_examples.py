@@ -1,4 +1,4 @@
-"""The examples of points 4 to 12, as the document prints them, and those of the README."""
+"""The examples of points 4 to 17, as the document prints them, and those of the README."""
 
 import doctest
 import unittest
@@ -43,11 +43,31 @@ EXAMPLES = """
 [('0001', '0100', '1011', '1110'), (0, 1, 3), (4,)]
 """
 
-# The document prints these beside what tails and periods tell.
-OWN = """
+FLOORS = """
+>>> from beatlamps.loops import comes_to, loops, period, periods, tail, tails
 >>> from beatlamps.own import own, own_row
->>> [own('ring', (-1, 1), 3), own('walls', (-1, 1), 4), own_row('ring', (-1, 1), '110')]
-[(1, 2), (0, 2, 4), (0, 1)]
+>>> [own('ring', (-1, 1), 3), own('walls', (-1, 1), 4), own_row('ring', (-1, 1), '110'), tails('walls', (-1, 1), 3), periods('walls', (-1, 1), 4)]
+[(1, 2), (0, 2, 4), (0, 1), 3, 6]
+>>> [loops('ring', (-1, 1), 3), loops('walls', (-1, 1), 2), tail('walls', (-1, 1), '100'), period('ring', (1,), '0101'), comes_to('ring', (1,), '0001', '0100')]
+[((1, 4),), ((1, 2), (2, 1)), 3, 2, 2]
+
+>>> from beatlamps.allrings import first_lost, kept, losing, lost_at, most_lost
+>>> [losing((-1, 0, 1)), losing((1,)), lost_at((-1, 0, 1), 3 * 10 ** 29), lost_at((-1, 1), 5), most_lost((-1, 1)), first_lost((-1, 1), 3), kept((-1, 0, 1), 10)]
+[(3,), (), 2, 1, (2, 2), None, 7]
+
+>>> from beatlamps.darkening import darkens, same_lost
+>>> [darkens((0, 1), (0, 2)), darkens((0, 2), (0, 1)), same_lost((0, 1), (-1, 1)), same_lost((0, 1, 3), (0, 2, 3))]
+[('always', (0, 1)), ('size', 2, (0, 1), 2), ('size', 2), ('always',)]
+
+>>> from beatlamps.floors import fewest_presses, floor_lost, pressed, presses_for, shows_all_on
+>>> [pressed('walls', True, ('000', '010', '000')), pressed('ring', False, ('10', '00')), presses_for('walls', True, ('10', '00')), floor_lost('walls', True, 5, 5)]
+[('010', '111', '010'), ('00', '00'), ('presses', ('11', '10')), 2]
+>>> [floor_lost('walls', False, 2, 2), presses_for('walls', False, ('10', '00'))[0], fewest_presses('walls', False, ('11', '11'))[0], shows_all_on('walls', 1, 2, ('10',))]
+[2, 'barred', 2, True]
+
+>>> from beatlamps.chasing import chased, last_row
+>>> [last_row(True, 3, '100'), last_row(False, 1, '10'), chased(True, ('110', '100', '000'))]
+['011', '01', (('000', '110', '101'), '011')]
 """
 
 
@@ -60,11 +80,11 @@ class Examples(unittest.TestCase):
     def test_points_4_to_12(self):
         self.check(EXAMPLES, 18)
 
-    def test_own(self):
-        self.check(OWN, 2)
+    def test_points_13_to_17(self):
+        self.check(FLOORS, 13)
 
     def test_readme(self):
-        self.check(README.read_text().replace("```", ""), 6)
+        self.check(README.read_text().replace("```", ""), 10)
 
 
 if __name__ == "__main__":

@@ -21,9 +21,20 @@ INTERFACE = {
     "deeper": "depth(kind, rule, row) shows_depth(kind, rule, row, value) before(kind, rule, row, beats)"
               " shows_before(kind, rule, row, beats, value)",
     "own": "own_row(kind, rule, row) own(kind, rule, size)",
+    "loops": "tail(kind, rule, row) period(kind, rule, row) tails(kind, rule, size) periods(kind, rule, size)"
+             " loops(kind, rule, size) comes_to(kind, rule, one, other)",
+    "allrings": "lost_at(rule, size) losing(rule) first_lost(rule, many) most_lost(rule) kept(rule, bound)",
+    "darkening": "darkens(one, other) shows_darkens(one, other, value) same_lost(one, other)",
+    "floors": "pressed(sides, middle, presses) presses_for(sides, middle, floor)"
+              " shows_presses_for(sides, middle, floor, value) floor_lost(sides, middle, high, wide)"
+              " quiet(sides, middle, high, wide) shows_quiet(sides, middle, high, wide, value)"
+              " fewest_presses(sides, middle, floor) shows_fewest_presses(sides, middle, floor, value)"
+              " all_on(sides, high, wide) shows_all_on(sides, high, wide, value)",
+    "chasing": "chased(middle, floor) last_row(middle, high, first)",
 }
 RIGHT = {"kind": "walls", "rule": (-1, 1), "row": "101", "size": 3, "beats": 5, "one": (-1, 1), "other": (-1, 0, 1),
-         "powers": (0, 1), "modulo": (0, 2), "value": None}
+         "powers": (0, 1), "modulo": (0, 2), "value": None, "many": 1, "bound": 10, "sides": "tube", "middle": True,
+         "presses": ("101", "011"), "floor": ("111", "111"), "high": 2, "wide": 3, "first": "110"}
 POLYNOMIALS = {**RIGHT, "one": (0, 2), "other": (0, 3)}
 ROWS = {**RIGHT, "one": "110", "other": "011"}
 
@@ -37,7 +48,7 @@ def told():
 
 
 def right_values(file, name, parameters):
-    values = ROWS if name == "summed" else POLYNOMIALS if file in ("polys", "plain", "measures") else RIGHT
+    values = ROWS if name in ("summed", "comes_to") else POLYNOMIALS if file in ("polys", "plain", "measures") else RIGHT
     if name == "undoing":
         values = {**values, "rule": (-1, 0, 1), "size": 4}
     return {parameter: values[parameter] for parameter in parameters}
