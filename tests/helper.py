@@ -268,6 +268,57 @@ def euclid(one, other):
     return one
 
 
+def slow_wall_polynomial(size, step=(1,)):
+    """Row by row; step stands in the place of x."""
+    less, one = (), (0,)
+    for _ in range(size):
+        less, one = one, slow_plus(slow_times(step, one), less)
+    return one
+
+
+def slow_wall_rests(one, many):
+    """The rests of the wall polynomials of sizes from 0 on by this one, so many, as integers."""
+    bits, length = sum(1 << at for at in one), one[-1] + 1
+    rests, less, rest = [], 0, 1 if length > 1 else 0
+    for _ in range(many):
+        rests.append(rest)
+        less, rest = rest, rest << 1 ^ less
+        if rest.bit_length() >= length:
+            rest ^= bits
+    return rests
+
+
+def slow_entry(one):
+    """The least number, from 2 on, such that it divides the wall polynomial of one less; not of 1, which divides all."""
+    many = 64
+    while 0 not in slow_wall_rests(one, many):
+        many *= 2
+    return slow_wall_rests(one, many).index(0) + 1
+
+
+def powers_of_bits(bits):
+    return tuple(at for at in range(bits.bit_length()) if bits >> at & 1)
+
+
+def often(factor, one):
+    """How often the factor divides it."""
+    many = 0
+    while one and slow_rest(one, factor) == ():
+        one = slow_quotient(one, factor)
+        many += 1
+    return many
+
+
+def slow_quotient(one, other):
+    """What times other makes one, which it divides."""
+    quotient = ()
+    while one:
+        step = one[-1] - other[-1]
+        quotient = (step,) + quotient
+        one = slow_plus(one, slow_times((step,), other))
+    return quotient
+
+
 def caught(function, *values, **named):
     """The error that the call raises, or None."""
     try:

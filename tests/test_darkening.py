@@ -5,7 +5,7 @@ from beatlamps.errors import BadRule
 from beatlamps.gardens import lost
 from beatlamps.rules import turned
 from tests.helper import NO_RULES, RULES, STRANGE, all_polynomials, all_rows, check_refusals, degree, euclid
-from tests.helper import slow_is_plain, slow_measure, slow_rest, slow_ring_beat, slow_times
+from tests.helper import often, slow_is_plain, slow_measure, slow_quotient, slow_rest, slow_ring_beat, slow_times
 
 POWERS = [one for one in all_polynomials(4) if one and one[0] == 0]
 PLAIN = [one for one in all_polynomials(4) if slow_is_plain(one)]
@@ -17,25 +17,6 @@ GREAT = [(-6, -5, -2, 0, 6), (-6, 6), (-6, 0, 6), (-6, -2, 2, 6), tuple(range(-6
 
 def powers_of(rule):
     return tuple(offset - rule[0] for offset in rule)
-
-
-def often(factor, one):
-    """How often the factor divides it."""
-    many = 0
-    while slow_rest(one, factor) == ():
-        one = slow_quotient(one, factor)
-        many += 1
-    return many
-
-
-def slow_quotient(one, other):
-    """What times other makes one, which it divides."""
-    quotient = ()
-    while one:
-        step = one[-1] - other[-1]
-        quotient = (step,) + quotient
-        one = tuple(sorted(set(one) ^ {at + step for at in other}))
-    return quotient
 
 
 def slow_darkens(one, other, plain, sizes):

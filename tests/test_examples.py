@@ -1,4 +1,4 @@
-"""The examples of points 4 to 17, as the document prints them, and those of the README."""
+"""The examples of points 4 to 21, as the document prints them, and those of the README."""
 
 import doctest
 import unittest
@@ -71,6 +71,27 @@ FLOORS = """
 """
 
 
+EVERY_SIZE = """
+>>> from beatlamps.entries import entries, entry, shared_size, stands, wall_at
+>>> [entry((0, 1)), entry((0, 1, 2)), stands((0, 1), 5), stands((1,), 7), wall_at(True, 2), entries(False, 5), shared_size(5, 8)]
+[3, 5, 4, 7, (2,), (((0, 1), 4, 3), ((1,), 1, 2)), 2]
+>>> from beatlamps.everyfloor import first_floor, floor_lost_at, kept_floors, losing_floors, most_floor
+>>> [floor_lost_at(True, 5, 5), floor_lost_at(False, 5, 5), first_floor(True, 5, 2), most_floor(True, 5), losing_floors(True, 5), kept_floors(True, 5, 10)]
+[2, 5, 3, (5, 23), (2, 3), 3]
+
+>>> from beatlamps.allwalls import darkens_between, first_lost_between, kept_between, losing_between, lost_between
+>>> from beatlamps.allwalls import most_lost_between
+>>> from beatlamps.tubes import tube_lost_at, tube_rule
+>>> from beatlamps.unfolding import is_quiet, spread
+>>> [spread(False, ('10', '01'), 5, 2), is_quiet(True, ('1',)), tube_rule(True, 1), tube_rule(False, 2), tube_lost_at(True, 1, 3 * 10 ** 20)]
+[('10', '01', '00', '01', '10'), False, (-1, 0, 1), (-2, 0, 2), 2]
+>>> [losing_between((-1, 1)), losing_between((-2, 0, 2)), lost_between((-2, 2), 10 ** 30 - 1), most_lost_between((-2, 0, 2)), first_lost_between((-2, 2), 2), kept_between((-1, 0, 1), 10)]
+[(2,), (3,), 2, (2, 2), 3, 7]
+>>> [darkens_between((-1, 1), (-2, 2)), darkens_between((-2, 2), (-1, 1))]
+[('always', (1,)), ('size', 3, (1,), 2)]
+"""
+
+
 class Examples(unittest.TestCase):
     def check(self, text, many):
         examples = doctest.DocTestParser().get_doctest(text, {}, "examples", None, 0)
@@ -83,8 +104,11 @@ class Examples(unittest.TestCase):
     def test_points_13_to_17(self):
         self.check(FLOORS, 13)
 
+    def test_points_18_to_21(self):
+        self.check(EVERY_SIZE, 11)
+
     def test_readme(self):
-        self.check(README.read_text().replace("```", ""), 10)
+        self.check(README.read_text().replace("```", ""), 12)
 
 
 if __name__ == "__main__":

@@ -5,7 +5,7 @@ from beatlamps.floors import all_on, fewest_presses, floor_lost, pressed, presse
 from beatlamps.floors import shows_fewest_presses, shows_presses_for, shows_quiet
 from tests.helper import NO_FLOOR_SIZES, NO_FLOORS, NO_MIDDLES, NO_SIDES, STRANGE, all_floors, caught, check_refusals
 from tests.helper import check_refused, dark_floor, degree, euclid, floor_sum, floors_meet_oddly, single_floors
-from tests.helper import slow_plus, slow_pressed, slow_rank, slow_times
+from tests.helper import slow_pressed, slow_rank, slow_wall_polynomial
 
 SIDES = [(sides, middle) for sides in ("walls", "tube", "ring") for middle in (False, True)]
 SMALL = [(1, 1), (1, 2), (2, 1), (1, 3), (3, 1), (2, 2), (2, 3), (3, 2), (1, 5), (5, 1), (2, 4), (4, 2), (1, 8), (8, 1),
@@ -28,13 +28,6 @@ def joined(floor):
 def made_floors(sides, middle, high, wide):
     """What all presses make, by the presses."""
     return {presses: slow_pressed(sides, middle, presses) for presses in all_floors(high, wide)}
-
-
-def slow_wall_polynomial(size, step=(1,)):
-    less, one = (), (0,)
-    for _ in range(size):
-        less, one = one, slow_plus(slow_times(step, one), less)
-    return one
 
 
 def sums_of(floors, high, wide):

@@ -31,10 +31,20 @@ INTERFACE = {
               " fewest_presses(sides, middle, floor) shows_fewest_presses(sides, middle, floor, value)"
               " all_on(sides, high, wide) shows_all_on(sides, high, wide, value)",
     "chasing": "chased(middle, floor) last_row(middle, high, first)",
+    "entries": "entry(factor) stands(factor, size) wall_at(middle, high) entries(middle, high)"
+               " shared_size(one, other)",
+    "everyfloor": "floor_lost_at(middle, high, wide) losing_floors(middle, high) first_floor(middle, high, many)"
+                  " most_floor(middle, high) kept_floors(middle, high, bound)",
+    "unfolding": "spread(middle, presses, high, wide) is_quiet(middle, presses)",
+    "tubes": "tube_rule(middle, high) tube_lost_at(middle, high, size)",
+    "allwalls": "lost_between(rule, size) losing_between(rule) first_lost_between(rule, many)"
+                " most_lost_between(rule) kept_between(rule, bound) darkens_between(one, other)"
+                " shows_darkens_between(one, other, value)",
 }
 RIGHT = {"kind": "walls", "rule": (-1, 1), "row": "101", "size": 3, "beats": 5, "one": (-1, 1), "other": (-1, 0, 1),
          "powers": (0, 1), "modulo": (0, 2), "value": None, "many": 1, "bound": 10, "sides": "tube", "middle": True,
-         "presses": ("101", "011"), "floor": ("111", "111"), "high": 2, "wide": 3, "first": "110"}
+         "presses": ("101", "011"), "floor": ("111", "111"), "high": 2, "wide": 3, "first": "110",
+         "factor": (0, 1)}
 POLYNOMIALS = {**RIGHT, "one": (0, 2), "other": (0, 3)}
 ROWS = {**RIGHT, "one": "110", "other": "011"}
 
@@ -51,6 +61,10 @@ def right_values(file, name, parameters):
     values = ROWS if name in ("summed", "comes_to") else POLYNOMIALS if file in ("polys", "plain", "measures") else RIGHT
     if name == "undoing":
         values = {**values, "rule": (-1, 0, 1), "size": 4}
+    if name == "shared_size":
+        values = {**values, "one": 5, "other": 8}
+    if name == "spread":
+        values = {**values, "presses": ("101", "101"), "high": 5}
     return {parameter: values[parameter] for parameter in parameters}
 
 
