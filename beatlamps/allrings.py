@@ -19,7 +19,6 @@ def ring_parts(rule):
 def lost_at(rule, size):
     """What the rule loses on a ring of this size."""
     need_rule(rule)
-    need_size(size, 1, ENDLESS)
     return shared(shifted(rule)[1], size)
 
 

@@ -1,10 +1,11 @@
 """What an even rule loses between walls, for rows of all sizes."""
 
+from beatlamps.bits import as_lot
 from beatlamps.checks import ENDLESS, need_even, need_number, need_rule, need_size
 from beatlamps.entries import wall_parts
 from beatlamps.oftener import shows_told, told_darkens
 from beatlamps.plain import factors
-from beatlamps.rules import in_cross
+from beatlamps.rules import in_cross_bits
 from beatlamps.sharing import first_losing, kept_numbers, lost_by, losing_numbers, most_losing
 
 MOST_LOST = 6
@@ -22,9 +23,14 @@ def need_even_rules(one, other):
     need_even_rule(other)
 
 
+def crossed(rule):
+    """The polynomial in the cross of an even rule."""
+    return as_lot(in_cross_bits(rule))
+
+
 def row_parts(rule):
     """The parts of what an even rule loses, for one more than each size."""
-    return wall_parts(factors(in_cross(rule)))
+    return wall_parts(factors(crossed(rule)))
 
 
 def lost_between(rule, size):
@@ -67,10 +73,10 @@ def kept_between(rule, bound):
 def darkens_between(one, other):
     """("always", quotient), or ("size", size, factor, times) of the least walls between which other does not."""
     need_even_rules(one, other)
-    return told_darkens(in_cross(one), in_cross(other), row_parts(one), 1)
+    return told_darkens(crossed(one), crossed(other), row_parts(one), 1)
 
 
 def shows_darkens_between(one, other, value):
     """Whether the value is a right result of darkens_between."""
     need_even_rules(one, other)
-    return shows_told(in_cross(one), in_cross(other), row_parts(one), 1, value)
+    return shows_told(crossed(one), crossed(other), row_parts(one), 1, value)

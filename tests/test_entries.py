@@ -1,7 +1,7 @@
 import unittest
 from math import gcd
 
-from beatlamps.entries import entries, entry, shared_size, stands, wall_at
+from beatlamps.entries import entries, entry, shared_size, stands, wall_at, wall_rest
 from beatlamps.errors import BadMiddle, BadPolynomial, BadSize, NotPlain, TooHigh
 from beatlamps.rows import wall_polynomial
 from tests.helper import NO_INTEGERS, NO_MIDDLES, NO_POLYNOMIALS, NO_ROW_SIZES, all_polynomials, check_refusals, euclid
@@ -151,6 +151,18 @@ class WallAt(unittest.TestCase):
         self.assertEqual([wall_at(False, 1), wall_at(True, 1)], [(1,), (0, 1)])
         self.assertEqual([entries(False, 1), entries(True, 1)], [(((1,), 1, 2),), (((0, 1), 1, 3),)])
         self.assertEqual([entries(False, 7), entries(True, 7)], [(((1,), 7, 2),), (((0, 1), 7, 3),)])
+
+
+class WallRest(unittest.TestCase):
+    def test_small_sizes(self):
+        for one in PLAIN + [(0,), (3,), (0, 2, 7), (1, 2, 5)]:
+            bits = sum(1 << at for at in one)
+            self.assertEqual([wall_rest(size, bits) for size in range(60)], slow_wall_rests(one, 60))
+
+    def test_sizes_of_thirty_figures(self):
+        for one in ((0, 1, 2), (3,), (0, 2, 7)):
+            for size in SIZES_30:
+                self.assertEqual(powers_of_bits(wall_rest(size, sum(1 << at for at in one))), long_wall_rest(size, one))
 
 
 class SharedSize(unittest.TestCase):
