@@ -34,6 +34,16 @@ def squared(one):
     return int("0".join(f"{one:b}"), 2)
 
 
+def every_second(bits, first):
+    """The powers first, first + 2 and so on, halved downwards."""
+    return as_bits([at // 2 for at in as_lot(bits) if at & 1 == first])
+
+
+def how_many(bits):
+    """How many bits are on."""
+    return f"{bits:b}".count("1")
+
+
 def divided(one, other):
     """The quotient and the rest of one by other, which is not nought."""
     quotient = 0

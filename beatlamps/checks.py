@@ -1,12 +1,13 @@
 """What values of the definitions are, and the errors for values that are none."""
 
-from beatlamps.errors import BadBeats, BadFloor, BadKind, BadMiddle, BadNumber, BadPolynomial, BadRow, BadRule
-from beatlamps.errors import BadSides, BadSize, NotEven, OtherSize
+from beatlamps.errors import BadBeats, BadFloor, BadKind, BadMiddle, BadNumber, BadPicture, BadPlace, BadPlaces
+from beatlamps.errors import BadPolynomial, BadRow, BadRule, BadSides, BadSize, NotEven, OtherSize
 
 GREATEST_POWER = 400
 GREATEST_OFFSET = 6
 GREATEST_ROW = 24
 GREATEST_FLOOR = 8
+GREATEST_PICTURE = 250
 ENDLESS = 10 ** 30
 KINDS = ("ring", "walls")
 SIDES = ("walls", "tube", "ring")
@@ -34,6 +35,31 @@ def is_lot(value, least, greatest):
 def is_polynomial(value):
     """Whether it is a polynomial."""
     return is_lot(value, 0, GREATEST_POWER)
+
+
+def is_same_lot(value, lot):
+    """Whether it is this lot, all of its items integers."""
+    return isinstance(value, tuple) and all([is_integer(item) for item in value]) and value == lot
+
+
+def is_kind(value):
+    """Whether it is a kind."""
+    return isinstance(value, str) and value in KINDS
+
+
+def is_rule(value):
+    """Whether it is a rule."""
+    return is_lot(value, -GREATEST_OFFSET, GREATEST_OFFSET) and len(value) > 0
+
+
+def is_rule_of(kind, value):
+    """Whether it is a rule by which rows of this kind go."""
+    return is_rule(value) and (kind == "ring" or contrary(value) == value)
+
+
+def is_places(value, size):
+    """Whether it is a lot of one or more of the places of a row of this size."""
+    return is_lot(value, 0, size - 1) and len(value) > 0
 
 
 def is_row(value):
@@ -75,7 +101,12 @@ def need_polynomial(value):
 
 def need_beats(value):
     """BadBeats unless it is a number of beats from 0 to 10 ** 30."""
-    if not is_between(value, 0, ENDLESS):
+    need_beats_within(value, 0, ENDLESS)
+
+
+def need_beats_within(value, least, greatest):
+    """BadBeats unless it is an integer within these bounds."""
+    if not is_between(value, least, greatest):
         raise BadBeats(value)
 
 
@@ -98,7 +129,7 @@ def need_number(value, least, greatest):
 
 def need_rule(value):
     """BadRule unless it is a rule."""
-    if not is_lot(value, -GREATEST_OFFSET, GREATEST_OFFSET) or len(value) == 0:
+    if not is_rule(value):
         raise BadRule(value)
 
 
@@ -110,7 +141,7 @@ def need_even(rule):
 
 def need_kind(value):
     """BadKind unless it is a kind."""
-    if not isinstance(value, str) or value not in KINDS:
+    if not is_kind(value):
         raise BadKind(value)
 
 
@@ -168,3 +199,21 @@ def need_floor_size(high, wide):
     """BadSize, for high, then for wide, unless they are those of a floor."""
     need_size(high, 1, GREATEST_FLOOR)
     need_size(wide, 1, GREATEST_FLOOR)
+
+
+def need_picture(value):
+    """BadPicture unless it is a picture."""
+    if not is_lot(value, -ENDLESS, ENDLESS) or len(value) > GREATEST_PICTURE:
+        raise BadPicture(value)
+
+
+def need_place(value, size):
+    """BadPlace unless it is one of the places of a row of this size."""
+    if not is_between(value, 0, size - 1):
+        raise BadPlace(value)
+
+
+def need_places(value, size):
+    """BadPlaces unless it is a lot of one or more of the places of a row of this size."""
+    if not is_places(value, size):
+        raise BadPlaces(value)

@@ -1,5 +1,6 @@
 """Floors, and the presses that make them of the dark one."""
 
+from beatlamps.bits import how_many
 from beatlamps.checks import is_floor_of, is_integer, need_floor, need_floor_size, need_middle, need_sides
 from beatlamps.errors import Barred, TooMany
 from beatlamps.grids import bars_floor, floor_of, is_made, lamps_of, made_by, shows_silent, silent_presses
@@ -82,7 +83,7 @@ def fewest_presses(sides, middle, floor):
     if len(silent) > MOST_SILENT:
         raise TooMany(MOST_SILENT)
     first = lamps_of(told)
-    number, lamps = min([(f"{first ^ other:b}".count("1"), first ^ other) for other in all_sums(silent)])
+    number, lamps = min([(how_many(first ^ other), first ^ other) for other in all_sums(silent)])
     return number, floor_of(lamps, high, wide)
 
 

@@ -1,8 +1,10 @@
 """Slow, plain computations that know nothing of the package, and values of all kinds that are handed in."""
 
+import re
 from itertools import combinations, product
 
 from beatlamps.errors import BadRule, LampError
+from beatlamps.looks import Looks
 
 
 def deep(many):
@@ -14,7 +16,8 @@ def deep(many):
 
 
 STRANGE = [None, True, False, {}, {0: 1}, {"ring": "110"}, [], [0, 1], ["110"], (None,), (True,), (False,), ((),),
-           (0, (1,)), ("0",), deep(30), deep(29), LampError((0, 1)), BadRule("1"), -1, 10 ** 39, "", "x", "0 1", "\n"]
+           (0, (1,)), ("0",), deep(30), deep(29), LampError((0, 1)), BadRule("1"),
+           Looks("kind ring\nsize 1\nrule 0\nlook 0 0 1"), -1, 10 ** 39, "", "x", "0 1", "\n"]
 NO_INTEGERS = [value for value in STRANGE if value is True or value is False or not isinstance(value, int)]
 NO_INTEGERS = NO_INTEGERS + ["1", "0", (1,), [1], (0,)]
 NO_LOTS = STRANGE + [0, 1, 2, "0", "01", "(0, 1)", (1, 0), (0, 0), (0, 1, 1), (0, 2, 1), (0, True), (False, 1),
@@ -354,3 +357,161 @@ def check_refusals(case, function, good, wrongs):
                 late[later] = others[0]
         everything = {**good, **late, name: value}
         check_refused(case, function, everything, error, told[0] if told else value)
+
+
+def is_lot_below(value, bound):
+    """Whether it is an ascending tuple of unlike integers from 0 on, all of them below the bound."""
+    if not isinstance(value, tuple) or not all(item.__class__ is int and 0 <= item < bound for item in value):
+        return False
+    return value == tuple(sorted(set(value)))
+
+
+def is_text_row(value, size):
+    return isinstance(value, str) and re.fullmatch(f"[01]{{{size}}}", value) is not None
+
+
+def bent(value):
+    """Values that are alike, but bent in one place."""
+    if isinstance(value, tuple):
+        yield from [list(value), value + (0,), value + value[-1:], (value,), value[::-1], dict(enumerate(value)), ()]
+        for at in range(len(value)):
+            yield value[:at] + value[at + 1:]
+            for other in bent(value[at]):
+                yield value[:at] + (other,) + value[at + 1:]
+    elif isinstance(value, bool):
+        yield from [int(value), not value, None]
+    elif isinstance(value, int):
+        yield from [value + 1, value - 1, -value, str(value), (value,), None]
+        if value in (0, 1):
+            yield bool(value)
+    elif isinstance(value, str):
+        yield from [value + "0", value[:-1], value.upper() + " ", (value,), list(value), value[::-1], 0, None]
+        for at, sign in enumerate(value[:6]):
+            if sign in "01":
+                yield value[:at] + str(1 - int(sign)) + value[at + 1:]
+
+
+WORDS = ["start", "quarrel", "sure", "open", "looks", "hidden", "none", "surely", "all", "unseen", "presses", "never",
+         "beats", "barred", "picture"]
+
+
+def check_shows(case, shows, arguments, right, values):
+    """Whether shows tells of all these values, of ones bent in one place, and of strange ones what right tells; and
+    takes one of these values at least."""
+    taken = 0
+    for value in values:
+        for other in [value] + list(bent(value)):
+            told = shows(*arguments, other)
+            case.assertIs(told, right(*arguments, other), (shows.__name__, arguments, other))
+            taken += told
+    for value in STRANGE + [(word, strange) for word in WORDS for strange in STRANGE[::5]]:
+        case.assertIs(shows(*arguments, value), right(*arguments, value), (shows.__name__, arguments, value))
+    case.assertGreater(taken, 0)
+
+
+def slow_picture_beat(rule, picture):
+    """A lamp that is on lights those at its place less each offset."""
+    return odd_ones([place - offset for place in picture for offset in rule])
+
+
+def slow_pictures(rule, picture, beats):
+    """The pictures behind each number of beats up to this one."""
+    found = [picture]
+    for _ in range(beats):
+        found.append(slow_picture_beat(rule, found[-1]))
+    return found
+
+
+def slow_far_picture(rule, picture, beats):
+    """Behind many beats, few of whose binary figures are 1: 2 ** k of them are one by offsets 2 ** k times as far."""
+    for at in range(beats.bit_length()):
+        if beats >> at & 1:
+            picture = slow_picture_beat(tuple(offset * 2 ** at for offset in rule), picture)
+    return picture
+
+
+def slow_far_after(kind, rule, row, beats):
+    """Many beats, by going on to where the row comes again."""
+    rows, tail = slow_orbit(kind, rule, row)
+    if beats >= len(rows):
+        beats = tail + (beats - tail) % (len(rows) - tail)
+    return rows[beats]
+
+
+FUTURES = {}
+
+
+def slow_on(kind, rule, size, beat, place):
+    """For each start of this size, in the sequence of all_rows, whether the lamp is on behind so many beats."""
+    key = (kind, rule, size, beat, place)
+    if key not in FUTURES:
+        FUTURES[key] = [slow_far_after(kind, rule, row, beat)[place] == "1" for row in all_rows(size)]
+    return FUTURES[key]
+
+
+NO_PICTURES = [value for value in NO_LOTS if value != (1, 0)] + [(1, 0), (10 ** 30 + 1,), (-10 ** 30 - 1,), (-10 ** 30 - 1, 0),
+                (0, 10 ** 30 + 1), tuple(range(251)), tuple(range(-126, 125)), tuple(range(3000)), (0, 10 ** 39)]
+
+
+def looks_text(kind, rule, size, seen):
+    lines = [f"kind {kind}", f"size {size}", "rule " + " ".join(map(str, rule))]
+    return "\n".join(lines + ["look " + " ".join(map(str, look)) for look in seen])
+
+
+def slow_seen(looks):
+    """For each look whether the lamp is on, start by start, and whether it was seen on."""
+    return [(slow_on(looks.kind, looks.rule, looks.size, beat, place), seen) for beat, place, seen in looks.seen]
+
+
+def slow_wrong(looks):
+    """For each start the tuple of the numbers of the looks that it does not fit."""
+    rows = all_rows(looks.size)
+    told = slow_seen(looks)
+    return {row: tuple(number for number, (on, seen) in enumerate(told) if on[at] != (seen == 1))
+            for at, row in enumerate(rows)}
+
+
+STARTS = {}
+
+
+def slow_starts(looks):
+    """All starts that fit."""
+    if looks.text not in STARTS:
+        STARTS[looks.text] = [row for row, wrong in slow_wrong(looks).items() if wrong == ()]
+    return STARTS[looks.text]
+
+
+def right_quarrel(looks, numbers):
+    """Whether it is a lot of looks that have, of whatever start, an even number on, while an odd number was seen on."""
+    if not is_lot_below(numbers, len(looks.seen)):
+        return False
+    told = slow_seen(looks)
+    for at in range(2 ** looks.size):
+        if sum(told[number][0][at] for number in numbers) % 2:
+            return False
+    return sum(told[number][1] for number in numbers) % 2 == 1
+
+
+def some_looks(chance, many, most=12, sizes=(1, 2, 3, 4, 5), right=0):
+    """So many Looks of all kinds; of some of them so many parts in ten are as some start would have them."""
+    found = []
+    while len(found) < many:
+        size = chance.choice(sizes)
+        kind, rule = chance.choice(kinds_and_rules())
+        start = chance.choice(all_rows(size))
+        seen, held = [], set()
+        for _ in range(chance.randrange(most + 1)):
+            beat, place = chance.choice([0, 1, 2, 3, 5, 8, 31, 10 ** 30]), chance.randrange(size)
+            value = chance.randrange(2)
+            if chance.randrange(10) < right:
+                value = int(slow_far_after(kind, rule, start, beat)[place])
+            if (beat, place) not in held:
+                held.add((beat, place))
+                seen.append((beat, place, value))
+        found.append(Looks(looks_text(kind, rule, size, seen)))
+    return found
+
+
+NO_PLACES_OF_4 = [value for value in NO_INTEGERS] + [-1, 4, 5, 10 ** 30]
+TEXT = "kind walls\nsize 4\nrule -1 1\nlook 0 0 1\nlook 3 2 0\nlook 3 0 1"
+QUARREL = "kind ring\nsize 4\nrule 0\nlook 0 0 1\nlook 3 2 0\nlook 3 0 0"

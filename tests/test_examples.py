@@ -1,4 +1,4 @@
-"""The examples of points 4 to 21, as the document prints them, and those of the README."""
+"""The examples of points 4 to 26, as the document prints them, and those of the README."""
 
 import doctest
 import unittest
@@ -92,6 +92,32 @@ EVERY_SIZE = """
 """
 
 
+ENDLESS = """
+>>> from beatlamps.endless import after_endless, copied, lamp
+>>> from beatlamps.finite import ahead_endless, always_ahead
+>>> from beatlamps.lit import alike_lit, lit, most_lit
+>>> [after_endless((-1, 1), (0,), 2), copied((0, 1), (0, 5), 3), lamp((-1, 1), (0,), 2 ** 99, 2 ** 99), lamp((-1, 1), (0,), 3, 0)]
+[(-2, 2), (-8, -3, 0, 5), True, False]
+>>> [lit((-1, 0, 1), 3), lit((0, 1), 2 ** 99 + 1), most_lit((0, 1), 3), alike_lit((0, 1), (-1, 1)), alike_lit((0, 1), (0, 1, 2))]
+[5, 4, (8, 7), ('always',), ('beats', 1)]
+>>> [ahead_endless((0, 1), (0, 3)), ahead_endless((0, 1), (0,)), always_ahead((0, 1), (0, 2))]
+[('picture', (1, 2, 3)), ('never', '1'), (2, (2,))]
+"""
+
+LOOKS = """
+>>> from beatlamps.looks import fits, Looks, open_starts, shows_fits
+>>> from beatlamps.sure import further, needless, sure, sure_from
+>>> three = Looks('kind ring\\nsize 3\\nrule -1 1\\nlook 0 0 1\\nlook 1 0 1')
+>>> [open_starts(three), sure(three, 10 ** 20, 0), sure_from(three, 0), sure(three, 0, 1)[0], sure_from(three, 1), needless(three)]
+[1, ('sure', 1, (1,)), 0, 'open', None, ()]
+>>> [further(three, ((0, 1), (5, 0))), further(three, ((3, 0), (5, 0))), shows_fits(three, ('start', '101'))]
+[('looks', (0,)), ('hidden', '011'), True]
+>>> torn = three.with_look((2, 0, 0))
+>>> fits(torn)
+('quarrel', (1, 2))
+"""
+
+
 class Examples(unittest.TestCase):
     def check(self, text, many):
         examples = doctest.DocTestParser().get_doctest(text, {}, "examples", None, 0)
@@ -107,8 +133,14 @@ class Examples(unittest.TestCase):
     def test_points_18_to_21(self):
         self.check(EVERY_SIZE, 11)
 
+    def test_points_22_to_24(self):
+        self.check(ENDLESS, 6)
+
+    def test_points_25_and_26(self):
+        self.check(LOOKS, 7)
+
     def test_readme(self):
-        self.check(README.read_text().replace("```", ""), 12)
+        self.check(README.read_text().replace("```", ""), 17)
 
 
 if __name__ == "__main__":

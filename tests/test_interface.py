@@ -5,6 +5,9 @@ import unittest
 from importlib import import_module
 from pathlib import Path
 
+from beatlamps.looks import Looks
+from tests.helper import TEXT
+
 PACKAGE = Path(__file__).resolve().parent.parent / "beatlamps"
 INTERFACE = {
     "polys": "plus(one, other) times(one, other) parted(one, other) common(one, other)"
@@ -40,11 +43,23 @@ INTERFACE = {
     "allwalls": "lost_between(rule, size) losing_between(rule) first_lost_between(rule, many)"
                 " most_lost_between(rule) kept_between(rule, bound) darkens_between(one, other)"
                 " shows_darkens_between(one, other, value)",
+    "endless": "after_endless(rule, picture, beats) copied(rule, picture, doublings) lamp(rule, picture, beats, place)",
+    "lit": "lit(rule, beats) most_lit(rule, doublings) alike_lit(one, other)",
+    "finite": "ahead_endless(rule, picture) shows_ahead_endless(rule, picture, value) always_ahead(rule, picture)",
+    "looks": "fits(looks) shows_fits(looks, value) open_starts(looks)",
+    "sure": "sure(looks, beat, place) shows_sure(looks, beat, place, value) sure_from(looks, place) needless(looks)"
+            " further(looks, offers) shows_further(looks, offers, value)",
+}
+# Of each class its file, the parameters, right values for them, its methods, and what is set on its objects.
+CLASSES = {
+    "Looks": ("looks", ["text"], [TEXT], {"with_look": ["look"], "without": ["number"]},
+              {"text": TEXT, "kind": "walls", "size": 4, "rule": (-1, 1), "seen": ((0, 0, 1), (3, 2, 0), (3, 0, 1))}),
 }
 RIGHT = {"kind": "walls", "rule": (-1, 1), "row": "101", "size": 3, "beats": 5, "one": (-1, 1), "other": (-1, 0, 1),
          "powers": (0, 1), "modulo": (0, 2), "value": None, "many": 1, "bound": 10, "sides": "tube", "middle": True,
          "presses": ("101", "011"), "floor": ("111", "111"), "high": 2, "wide": 3, "first": "110",
-         "factor": (0, 1)}
+         "factor": (0, 1), "picture": (0, 3), "doublings": 5, "place": 2, "looks": Looks(TEXT), "beat": 6,
+         "offers": ((1, 0), (5, 2))}
 POLYNOMIALS = {**RIGHT, "one": (0, 2), "other": (0, 3)}
 ROWS = {**RIGHT, "one": "110", "other": "011"}
 
@@ -95,6 +110,19 @@ class Interface(unittest.TestCase):
             self.assertTrue(no_lists(result), name)
             if name.startswith("shows_") or name.startswith("is_") or name == "alike_on":
                 self.assertIs(result.__class__, bool)
+
+    def test_classes(self):
+        for name, (file, parameters, values, methods, attributes) in CLASSES.items():
+            tree = ast.parse((PACKAGE / f"{file}.py").read_text())
+            found = [node for node in tree.body if isinstance(node, ast.ClassDef) and node.name == name]
+            self.assertEqual(len(found), 1, name)
+            told = {node.name: node.args for node in found[0].body if isinstance(node, ast.FunctionDef)}
+            for method, further in {"__init__": parameters, **methods}.items():
+                self.assertEqual([argument.arg for argument in told[method].args], ["self"] + further, method)
+                self.assertEqual(told[method].defaults, [])
+            thing = getattr(import_module(f"beatlamps.{file}"), name)
+            for made in (thing(*values), thing(**dict(zip(parameters, values)))):
+                self.assertEqual({at: getattr(made, at) for at in attributes}, attributes)
 
 
 if __name__ == "__main__":

@@ -18,6 +18,8 @@ METHODS = set("""append clear copy count endswith extend find get index insert i
 isupper items join keys ljust lower lstrip partition pop remove replace reverse rfind rjust rpartition rsplit rstrip
 setdefault split splitlines startswith strip update upper values zfill bit_length add discard title capitalize swapcase
 casefold removeprefix removesuffix rindex isascii isdecimal isnumeric isidentifier isprintable""".split())
+OWN_METHODS = set("""beat back press cross change turn lamp undo redo trial keep take_over do_deed""".split())
+SPECIAL = set("__init__ __len__ __contains__ __eq__ __enter__ __exit__".split())
 # Examples that are run leave `_` among Python's own names.
 PYTHONS_OWN = set(dir(builtins)) - {"_"}
 BARRED_NAMES = set("""register mro elements open input law version_info with_traceback add_note attrgetter breakpoint
@@ -27,7 +29,7 @@ BARRED_WORDS = set("""type typing typing_extensions enum Enum IntEnum StrEnum Fl
 namedtuple NamedTuple TypedDict TYPE_CHECKING abstractmethod dataclass overload contextmanager""".split())
 BARRED_STARTS = ("_wall", "_pe_", "_dcw_", "_enum_", "_cm_", "_twin_re_", "_lay_", "_law_", "_stub_", "_sre", "__")
 BARRED_NODES = (ast.Global, ast.AsyncFunctionDef, ast.AsyncFor, ast.AsyncWith, ast.Await, ast.GeneratorExp, ast.Div,
-                ast.MatMult, ast.AnnAssign, ast.Set, ast.SetComp, ast.Try)
+                ast.MatMult, ast.AnnAssign, ast.Set, ast.SetComp, ast.Yield, ast.YieldFrom, ast.NamedExpr)
 PLAIN_NODES = (ast.Constant, ast.Tuple, ast.List, ast.Dict, ast.BinOp, ast.UnaryOp, ast.operator, ast.unaryop, ast.Load)
 
 
@@ -76,7 +78,7 @@ class Language(unittest.TestCase):
                 if isinstance(node, ast.FunctionDef):
                     self.assertLessEqual(node.end_lineno - node.lineno + 1, 40, (path, node.name))
                     self.assertEqual(node.decorator_list, [])
-                    self.assertIsNotNone(ast.get_docstring(node) or node.name == "__init__" or None, node.name)
+                    self.assertTrue(ast.get_docstring(node) or node.name in SPECIAL, node.name)
 
     def test_imports(self):
         for path, tree in trees():
@@ -141,7 +143,7 @@ class Language(unittest.TestCase):
                     self.assertIn(node.id, known, (path, node.lineno))
                     self.assertNotEqual(node.id, "_")
                 if isinstance(node, ast.Call) and isinstance(node.func, ast.Attribute):
-                    self.assertIn(node.func.attr, METHODS, (path, node.lineno))
+                    self.assertIn(node.func.attr, METHODS | OWN_METHODS, (path, node.lineno))
 
     def test_what_is_not_used(self):
         for path, tree in trees():
@@ -163,6 +165,67 @@ class Language(unittest.TestCase):
                 if isinstance(node, ast.Raise):
                     self.assertIsInstance(node.exc, ast.Call)
                     self.assertIsNone(node.cause)
+
+    def test_classes(self):
+        for path, tree in trees():
+            for node in ast.walk(tree):
+                if not isinstance(node, ast.ClassDef):
+                    continue
+                self.assertIn(node, tree.body)
+                self.assertEqual((node.decorator_list, node.keywords), ([], []))
+                self.assertIsNotNone(ast.get_docstring(node))
+                methods = node.body[1:]
+                self.assertTrue(all(isinstance(method, ast.FunctionDef) for method in methods), node.name)
+                names = [method.name for method in methods]
+                self.assertEqual(len(names), len(set(names)))
+                self.assertLessEqual({name for name in names if name.startswith("__")}, SPECIAL)
+                self.assertTrue(all(method.args.args[0].arg == "self" for method in methods))
+                made = [part.attr for part in ast.walk(node) if isinstance(part, ast.Attribute)
+                        and isinstance(part.ctx, ast.Store)]
+                self.assertEqual(set(made) & set(names), set(), node.name)
+                for method in methods:
+                    self.check_special(method)
+
+    def check_special(self, method):
+        """Operators, lengths and equalities change nothing, and call no methods; `__exit__` sets attributes alone."""
+        parts = list(ast.walk(method))
+        if method.name in ("__len__", "__contains__", "__eq__"):
+            self.assertEqual(len(method.body), 1)
+            self.assertIsInstance(method.body[0], ast.Return)
+            self.assertFalse([part for part in parts if isinstance(part, ast.Call) and isinstance(part.func, ast.Attribute)])
+        if method.name == "__eq__":
+            told = ast.unparse(method.body[0])
+            self.assertRegex(told, r"^return isinstance\(other, \w+\)( and \(?self\.(\w+) == other\.\2\)?)+$")
+        if method.name == "__exit__":
+            self.assertEqual([argument.arg for argument in method.args.args], ["self", "kind", "value", "trace"])
+            for part in parts[2:]:
+                self.assertIsInstance(part, (ast.arg, ast.If, ast.Assign, ast.Attribute, ast.Name, ast.BoolOp, ast.Or,
+                                             ast.Compare, ast.Is, ast.IsNot, ast.Constant, ast.Load, ast.Store))
+        if method.name == "__init__":
+            self.assertFalse([part for part in parts if isinstance(part, ast.Return)])
+
+    def test_errors_are_caught_by_their_own_names(self):
+        for path, tree in trees():
+            own = {node.name for node in ast.parse((PACKAGE / "errors.py").read_text()).body[1:]}
+            for node in ast.walk(tree):
+                if isinstance(node, ast.Try):
+                    self.assertEqual(node.finalbody, [])
+                    for handler in node.handlers:
+                        self.assertIn(handler.type.id, own, path)
+
+    def test_sets_are_kept_as_they_may_be(self):
+        for path, tree in trees():
+            for node in functions(tree):
+                kept = [part.targets[0].id for part in ast.walk(node) if isinstance(part, ast.Assign)
+                        and isinstance(part.value, ast.Call) and isinstance(part.value.func, ast.Name)
+                        and part.value.func.id == "set"]
+                stored = [part.id for part in ast.walk(node) if isinstance(part, ast.Name)
+                          and isinstance(part.ctx, ast.Store)]
+                for name in kept:
+                    self.assertEqual(stored.count(name), 1, (path, name))
+                    self.assertNotIn(name, [loop.iter.id for loop in ast.walk(node)
+                                            if isinstance(loop, (ast.For, ast.comprehension))
+                                            and isinstance(loop.iter, ast.Name)])
 
     def test_ranges_and_the_like_are_gone_over_at_once(self):
         for path, tree in trees():
