@@ -5,6 +5,7 @@ from itertools import combinations, product
 
 from beatlamps.errors import BadRule, LampError
 from beatlamps.looks import Looks
+from beatlamps.yards import Yard
 
 
 def deep(many):
@@ -17,7 +18,7 @@ def deep(many):
 
 STRANGE = [None, True, False, {}, {0: 1}, {"ring": "110"}, [], [0, 1], ["110"], (None,), (True,), (False,), ((),),
            (0, (1,)), ("0",), deep(30), deep(29), LampError((0, 1)), BadRule("1"),
-           Looks("kind ring\nsize 1\nrule 0\nlook 0 0 1"), -1, 10 ** 39, "", "x", "0 1", "\n"]
+           Looks("kind ring\nsize 1\nrule 0\nlook 0 0 1"), Yard("ring", (0,), "1"), -1, 10 ** 39, "", "x", "0 1", "\n"]
 NO_INTEGERS = [value for value in STRANGE if value is True or value is False or not isinstance(value, int)]
 NO_INTEGERS = NO_INTEGERS + ["1", "0", (1,), [1], (0,)]
 NO_LOTS = STRANGE + [0, 1, 2, "0", "01", "(0, 1)", (1, 0), (0, 0), (0, 1, 1), (0, 2, 1), (0, True), (False, 1),
@@ -515,3 +516,162 @@ def some_looks(chance, many, most=12, sizes=(1, 2, 3, 4, 5), right=0):
 NO_PLACES_OF_4 = [value for value in NO_INTEGERS] + [-1, 4, 5, 10 ** 30]
 TEXT = "kind walls\nsize 4\nrule -1 1\nlook 0 0 1\nlook 3 2 0\nlook 3 0 1"
 QUARREL = "kind ring\nsize 4\nrule 0\nlook 0 0 1\nlook 3 2 0\nlook 3 0 0"
+
+
+def slow_orbit_seen(kind, rule, row, places):
+    """What is seen at these places, behind each number of beats until the row comes again."""
+    return [tuple(other[place] for place in places) for other in slow_orbit(kind, rule, row)[0]]
+
+
+ROOMS = {}
+
+
+def slow_unseen(kind, rule, size, places):
+    """All rows, but the dark one, whose lamps at these places are always off."""
+    key = (kind, rule, size, places)
+    if key not in ROOMS:
+        ROOMS[key] = [row for row in all_rows(size)[1:] if not
+                      any("1" in seen for seen in slow_orbit_seen(kind, rule, row, places))]
+    return ROOMS[key]
+
+
+def all_places(size):
+    return [lot for number in range(1, size + 1) for lot in combinations(range(size), number)]
+
+
+def slow_reached(kind, rule, rows, places):
+    """All rows that come of these by a beat, and presses at these places."""
+    masks = ["0" * len(rows[0])]
+    for place in places:
+        masks += [mask[:place] + "1" + mask[place + 1:] for mask in masks]
+    return sorted({slow_sum(slow_beat(kind, rule, row), mask) for row in rows for mask in masks})
+
+
+NO_LOTS_OF_PLACES = NO_LOTS[:]
+for value in [(0, 1), (0, 2), (0,), (1,)]:
+    NO_LOTS_OF_PLACES = [other for other in NO_LOTS_OF_PLACES if repr(other) != repr(value)]
+NO_PLACES_IN_4 = NO_LOTS_OF_PLACES + [(), (-1,), (-1, 0), (4,), (0, 4), (0, 1, 2, 3, 4), (10 ** 30,), (0, 2, 1), (3, 3)]
+
+
+BACKS = {}
+
+
+def slow_back(kind, rule, row, many):
+    """(lost, row): what is lost, and if nothing is, the only row that becomes this one by so many beats."""
+    key = (kind, rule, len(row))
+    if key not in BACKS:
+        BACKS[key] = [other for other in all_rows(len(row)) if "1" not in slow_beat(kind, rule, other)]
+    if len(BACKS[key]) > 1:
+        return len(BACKS[key]).bit_length() - 1, None
+    found = [other for other in all_rows(len(row)) if slow_far_after(kind, rule, other, many) == row]
+    assert len(found) == 1
+    return 0, found[0]
+
+
+def slow_turned(row, places):
+    for place in places:
+        row = row[:place] + str(1 - int(row[place])) + row[place + 1:]
+    return row
+
+
+def slow_deed(kind, rule, row, clock, word, value):
+    """(rule, row, clock) behind this deed, or (name of the error, what it tells)."""
+    size = len(row)
+    is_integer = value.__class__ is int
+    if word in ("beat", "back"):
+        if not is_integer or not 1 <= value <= 10 ** 30:
+            return "BadBeats", value
+        if word == "beat":
+            return rule, slow_far_after(kind, rule, row, value), clock + value
+        lost, other = slow_back(kind, rule, row, value)
+        return ("Loses", lost) if lost else (rule, other, clock - value)
+    if word in ("press", "cross"):
+        if not is_integer or not 0 <= value < size:
+            return "BadPlace", value
+        places = [value] if word == "press" else [value - 1, value, value + 1]
+        if kind == "walls":
+            places = [place for place in places if 0 <= place < size]
+        return rule, slow_turned(row, [place % size for place in places]), clock
+    if word == "change":
+        if not isinstance(value, tuple) or value == () or not all(one.__class__ is int and -6 <= one <= 6 for one in value):
+            return "BadRule", value
+        if value != tuple(sorted(set(value))):
+            return "BadRule", value
+        if kind == "walls" and tuple(sorted(-offset for offset in value)) != value:
+            return "NotEven", value
+        return value, row, clock
+    assert word == "turn"
+    return rule, row[1:] + row[0] if kind == "ring" else row[::-1], clock
+
+
+class SlowYard:
+    """A yard that goes through all its deeds whenever it is asked."""
+
+    def __init__(self, kind, rule, row):
+        self.kind, self.begun, self.first = kind, rule, row
+        self.deeds, self.undone, self.blocks = [], [], []
+
+    def state(self):
+        """(rule, row, clock) as they are now."""
+        now = self.begun, self.first, 0
+        for word, value in self.deeds:
+            now = slow_deed(self.kind, *now, word, value)
+        return now
+
+    def do(self, word, value):
+        """Does it; what it is refused with, as (name, what it tells), or None."""
+        if word == "undo":
+            if not self.deeds:
+                return "NothingToUndo", None
+            self.undone.append(self.deeds.pop())
+            return None
+        if word == "redo":
+            if not self.undone:
+                return "NothingToRedo", None
+            self.deeds.append(self.undone.pop())
+            return None
+        if word == "keep":
+            if not self.blocks:
+                return "NoTrial", None
+            self.blocks[-1][0] = True
+            return None
+        told = slow_deed(self.kind, *self.state(), word, value)
+        if len(told) == 2:
+            return told
+        self.deeds.append((word, value))
+        self.undone = []
+        return None
+
+    def begin(self):
+        self.blocks.append([False, list(self.deeds), list(self.undone)])
+
+    def end(self, failed):
+        kept, deeds, undone = self.blocks.pop()
+        if failed or not kept:
+            self.deeds, self.undone = deeds, undone
+
+    def journal(self):
+        lines = [f"kind {self.kind}", "rule " + " ".join(map(str, self.begun)), f"row {self.first}"]
+        for word, value in self.deeds:
+            values = () if word == "turn" else value if isinstance(value, tuple) else (value,)
+            lines.append(" ".join([word] + [str(one) for one in values]))
+        return "\n".join(lines)
+
+
+def do_deed_on(yard, word, value):
+    """Does it on a yard of the package; what it is refused with, as (name, what it tells), or None."""
+    function = getattr(yard, word)
+    error = caught(function) if word in ("turn", "undo", "redo", "keep") else caught(function, value)
+    return None if error is None else (error.__class__.__name__, error.value)
+
+
+def some_deed(chance, size):
+    """A deed, mostly right; or undo or redo."""
+    word = chance.choice("beat beat back back press press cross change turn undo undo redo".split())
+    if word in ("beat", "back"):
+        return word, chance.choice([1, 1, 2, 3, 7, 10 ** 30, 10 ** 30 - 1, 0, 10 ** 30 + 1, -1, True, "1", None])
+    if word in ("press", "cross"):
+        return word, chance.choice(list(range(size)) * 3 + [-1, size, True, "0", (0,), None])
+    if word == "change":
+        return word, chance.choice(RULES + SOME_EVEN + SOME_EVEN + [(), (0, 0), (1, 0), [0], 0, (7,), (True,)])
+    return word, None

@@ -1,4 +1,4 @@
-"""The examples of points 4 to 26, as the document prints them, and those of the README."""
+"""The examples of points 4 to 31, as the document prints them, and those of the README."""
 
 import doctest
 import unittest
@@ -107,14 +107,40 @@ ENDLESS = """
 LOOKS = """
 >>> from beatlamps.looks import fits, Looks, open_starts, shows_fits
 >>> from beatlamps.sure import further, needless, sure, sure_from
+>>> from beatlamps.wrong import believed, least_wrong
 >>> three = Looks('kind ring\\nsize 3\\nrule -1 1\\nlook 0 0 1\\nlook 1 0 1')
 >>> [open_starts(three), sure(three, 10 ** 20, 0), sure_from(three, 0), sure(three, 0, 1)[0], sure_from(three, 1), needless(three)]
 [1, ('sure', 1, (1,)), 0, 'open', None, ()]
->>> [further(three, ((0, 1), (5, 0))), further(three, ((3, 0), (5, 0))), shows_fits(three, ('start', '101'))]
-[('looks', (0,)), ('hidden', '011'), True]
+>>> [further(three, ((0, 1), (5, 0))), further(three, ((3, 0), (5, 0))), shows_fits(three, ('start', '101')), believed(three, 1, 1, 0)[0]]
+[('looks', (0,)), ('hidden', '011'), True, 'open']
 >>> torn = three.with_look((2, 0, 0))
->>> fits(torn)
-('quarrel', (1, 2))
+>>> [fits(torn), least_wrong(torn)[0], believed(torn, 0, 0, 0), believed(torn, 1, 0, 0)]
+[('quarrel', (1, 2)), 1, ('none',), ('surely', 1)]
+"""
+
+HANDS = """
+>>> from beatlamps.hands import led, soonest, steered, steers_all
+>>> from beatlamps.places import bar, fewest_places, hidden_between, tells_all
+>>> [tells_all('ring', (-1, 1), 3, (0,)), tells_all('ring', (-1, 1), 3, (0, 1)), tells_all('walls', (-1, 1), 4, (0,)), bar('ring', (-1, 1), 3)]
+[('unseen', '011'), ('all', 2), ('all', 4), (2, (0, 1))]
+>>> [fewest_places('ring', (-1, 1), 3)[1], steers_all('walls', (-1, 1), 4, (3,)), led('walls', (-1, 1), '0000', ((0,), (), (0,)))]
+[(((0,), '011'), ((1,), '101'), ((2,), '110')), ('all', 4), '0010']
+>>> [hidden_between((5,), 8), hidden_between((1, 2), 10 ** 30), soonest('walls', (-1, 1), (0,), '0100'), steered('ring', (-1, 1), (0,), '000', '010', 5)[0], steered('ring', (1,), (0,), '100', '001', 1)]
+[2, 0, ('beats', 2, ((0,), ())), 'never', ('presses', ((),))]
+"""
+
+YARDS = """
+>>> from beatlamps.desk import Desk
+>>> from beatlamps.journals import journal
+>>> from beatlamps.yards import Yard
+>>> yard = Yard('ring', (-1, 0, 1), '10000')
+>>> [yard.beat(1), yard.row, yard.press(2), yard.row, yard.back(1), yard.row, yard.clock, yard.lamp(0, 10 ** 20), yard.undo(), yard.row, yard.done, 0 in yard]
+[None, '11001', None, '11101', None, '00101', 0, True, None, '11101', 2, True]
+>>> journal(yard).split('\\n')
+['kind ring', 'rule -1 0 1', 'row 10000', 'beat 1', 'press 2']
+>>> desk = Desk(journal(yard))
+>>> [desk.say(line) for line in ('row', 'lost', 'tail', 'ahead', 'cross 0', 'row', 'clock', 'tells 0', 'lamp 0 0')]
+['11101', '0', '0', 'row', 'ok', '00100', '1', 'unseen', 'off']
 """
 
 
@@ -136,11 +162,17 @@ class Examples(unittest.TestCase):
     def test_points_22_to_24(self):
         self.check(ENDLESS, 6)
 
-    def test_points_25_and_26(self):
-        self.check(LOOKS, 7)
+    def test_points_25_to_27(self):
+        self.check(LOOKS, 8)
+
+    def test_points_28_and_29(self):
+        self.check(HANDS, 5)
+
+    def test_points_30_and_31(self):
+        self.check(YARDS, 8)
 
     def test_readme(self):
-        self.check(README.read_text().replace("```", ""), 17)
+        self.check(README.read_text().replace("```", ""), 29)
 
 
 if __name__ == "__main__":

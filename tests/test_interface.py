@@ -1,4 +1,4 @@
-"""The interface of the parts that have landed: names, parameters, files, and what holds of all of them."""
+"""The interface: names, parameters, files, and what holds of all of them."""
 
 import ast
 import unittest
@@ -6,6 +6,8 @@ from importlib import import_module
 from pathlib import Path
 
 from beatlamps.looks import Looks
+from beatlamps.journals import read_journal
+from beatlamps.yards import Yard
 from tests.helper import TEXT
 
 PACKAGE = Path(__file__).resolve().parent.parent / "beatlamps"
@@ -49,17 +51,35 @@ INTERFACE = {
     "looks": "fits(looks) shows_fits(looks, value) open_starts(looks)",
     "sure": "sure(looks, beat, place) shows_sure(looks, beat, place, value) sure_from(looks, place) needless(looks)"
             " further(looks, offers) shows_further(looks, offers, value)",
+    "wrong": "least_wrong(looks) shows_least_wrong(looks, value) believed(looks, most, beat, place)"
+             " shows_believed(looks, most, beat, place, value)",
+    "places": "tells_all(kind, rule, size, places) shows_tells_all(kind, rule, size, places, value)"
+              " fewest_places(kind, rule, size) shows_fewest_places(kind, rule, size, value) bar(kind, rule, size)"
+              " shows_bar(kind, rule, size, value) hidden_between(places, size)",
+    "hands": "led(kind, rule, row, presses) steered(kind, rule, places, row, goal, beats)"
+             " shows_steered(kind, rule, places, row, goal, beats, value) soonest(kind, rule, places, goal)"
+             " shows_soonest(kind, rule, places, goal, value) steers_all(kind, rule, size, places)"
+             " shows_steers_all(kind, rule, size, places, value)",
+    "journals": "journal(yard) read_journal(text)",
 }
+JOURNAL = "kind ring\nrule 0 1\nrow 110\nbeat 5\nturn"
 # Of each class its file, the parameters, right values for them, its methods, and what is set on its objects.
 CLASSES = {
     "Looks": ("looks", ["text"], [TEXT], {"with_look": ["look"], "without": ["number"]},
               {"text": TEXT, "kind": "walls", "size": 4, "rule": (-1, 1), "seen": ((0, 0, 1), (3, 2, 0), (3, 0, 1))}),
+    "Yard": ("yards", ["kind", "rule", "row"], ["ring", (0, 1), "110"],
+             {"beat": ["many"], "back": ["many"], "press": ["place"], "cross": ["place"], "change": ["rule"], "turn": [],
+              "lamp": ["place", "beats"], "looked": ["places", "beats"], "undo": [], "redo": [], "trial": [], "keep": [],
+              "tried": ["look"], "copy": []},
+             {"kind": "ring", "rule": (0, 1), "row": "110", "first": "110", "clock": 0, "done": 0}),
+    "Desk": ("desk", ["text"], [JOURNAL], {"say": ["line"]}, {"yard": read_journal(JOURNAL)}),
 }
 RIGHT = {"kind": "walls", "rule": (-1, 1), "row": "101", "size": 3, "beats": 5, "one": (-1, 1), "other": (-1, 0, 1),
          "powers": (0, 1), "modulo": (0, 2), "value": None, "many": 1, "bound": 10, "sides": "tube", "middle": True,
          "presses": ("101", "011"), "floor": ("111", "111"), "high": 2, "wide": 3, "first": "110",
          "factor": (0, 1), "picture": (0, 3), "doublings": 5, "place": 2, "looks": Looks(TEXT), "beat": 6,
-         "offers": ((1, 0), (5, 2))}
+         "offers": ((1, 0), (5, 2)), "most": 1, "places": (0, 2), "goal": "011", "yard": Yard("ring", (0, 1), "110"),
+         "text": JOURNAL}
 POLYNOMIALS = {**RIGHT, "one": (0, 2), "other": (0, 3)}
 ROWS = {**RIGHT, "one": "110", "other": "011"}
 
@@ -80,6 +100,8 @@ def right_values(file, name, parameters):
         values = {**values, "one": 5, "other": 8}
     if name == "spread":
         values = {**values, "presses": ("101", "101"), "high": 5}
+    if name == "led":
+        values = {**values, "presses": ((0,), (), (1, 2))}
     return {parameter: values[parameter] for parameter in parameters}
 
 
@@ -90,6 +112,14 @@ def no_lists(value):
 
 
 class Interface(unittest.TestCase):
+    def test_nothing_of_the_document_is_left_out(self):
+        self.assertEqual(len(list(told())), 126)
+        self.assertEqual(len({name for _, name, _ in told()}), 126)
+        for file, name, parameters in told():
+            if name.startswith("shows_"):
+                self.assertIn((file, name[6:], parameters[:-1]), list(told()))
+                self.assertEqual(parameters[-1], "value")
+
     def test_names_parameters_and_files(self):
         for file, name, parameters in told():
             tree = ast.parse((PACKAGE / f"{file}.py").read_text())
@@ -107,7 +137,7 @@ class Interface(unittest.TestCase):
             self.assertEqual(function(**values), result)
             self.assertEqual(function(**dict(reversed(values.items()))), result)
             self.assertEqual(values, held)
-            self.assertTrue(no_lists(result), name)
+            self.assertTrue(no_lists(result) or name == "read_journal", name)
             if name.startswith("shows_") or name.startswith("is_") or name == "alike_on":
                 self.assertIs(result.__class__, bool)
 
@@ -120,6 +150,7 @@ class Interface(unittest.TestCase):
             for method, further in {"__init__": parameters, **methods}.items():
                 self.assertEqual([argument.arg for argument in told[method].args], ["self"] + further, method)
                 self.assertEqual(told[method].defaults, [])
+                self.assertEqual([argument.arg for argument in told[method].kwonlyargs], ["keep"] * (method == "tried"))
             thing = getattr(import_module(f"beatlamps.{file}"), name)
             for made in (thing(*values), thing(**dict(zip(parameters, values)))):
                 self.assertEqual({at: getattr(made, at) for at in attributes}, attributes)
