@@ -1,6 +1,6 @@
 """What looks tell if some of them are wrong."""
 
-from beatlamps.checks import is_integer, is_lot, is_row_of, need_number
+from beatlamps.checks import is_integer, is_lot, is_row_of, is_same_lot, need_number
 from beatlamps.looks import is_quarrel
 from beatlamps.rings import bits_of, row_of
 from beatlamps.sights import fits_told, quarrel_in, sight, start_in, told_but, told_by
@@ -45,7 +45,7 @@ def is_reason(told, others, value):
     """Whether it is (others, numbers), numbers being a lot of looks that quarrel without these others."""
     if not isinstance(value, tuple) or len(value) != 2:
         return False
-    if not is_lot(value[0], 0, len(told) - 1) or value[0] != others or not is_quarrel(value[1], told):
+    if not is_same_lot(value[0], others) or not is_quarrel(value[1], told):
         return False
     return not any([number in others for number in value[1]])
 

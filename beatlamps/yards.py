@@ -1,7 +1,7 @@
 """A yard: a row of lamps in which lamps are pressed, beats go by, and rules are changed."""
 
-from beatlamps.checks import ENDLESS, is_between, need_beats, need_beats_within, need_even, need_place, need_places
-from beatlamps.checks import need_rule, need_with_row
+from beatlamps.checks import ENDLESS, is_between, need_beats_within, need_even, need_place, need_places, need_rule
+from beatlamps.checks import need_with_row
 from beatlamps.comings import source
 from beatlamps.errors import Full, Loses, NoTrial, NothingToRedo, NothingToUndo, TooLong
 from beatlamps.gardens import lost
@@ -144,7 +144,6 @@ class Yard:
     def lamp(self, place, beats):
         """Whether the lamp at this place will be on behind so many beats."""
         need_place(place, len(self.row))
-        need_beats(beats)
         return after(self.kind, self.rule, self.row, beats)[place] == "1"
 
     def looked(self, places, beats):

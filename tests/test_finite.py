@@ -114,6 +114,11 @@ class AheadEndless(unittest.TestCase):
                 shows_ahead_endless((0, 3), (0, 2), ("never", text))]
         self.assertEqual(wide, ["100", "001", "110", "011"])
 
+    def test_shows_takes_no_marks_of_other_signs(self):
+        self.assertIs(shows_ahead_endless((0, 1), (0, 2, 3), ("never", "1111")), True)
+        for text in ("1_11", "+111", "-111", " 111", "111 ", "111\n", "0b11", "1112", "xxxx", "11l1", "_111"):
+            self.assertIs(shows_ahead_endless((0, 1), (0, 2, 3), ("never", text)), False, text)
+
     def test_shows_far_ones(self):
         told = ahead_endless((0, 1), (0, 200))
         self.assertEqual(told, ("picture", tuple(range(1, 201))))

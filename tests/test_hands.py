@@ -271,7 +271,8 @@ class SteersAll(unittest.TestCase):
         self.assertEqual(steers_all("ring", (0,), 16, tuple(range(15))), ("barred", "0" * 15 + "1"))
 
     def test_shows(self):
-        for case in [("ring", (-1, 1), 3, (0,)), ("walls", (-1, 1), 4, (3,)), ("ring", (0,), 3, (0, 2)), ("ring", (-6, 1), 2, (1,))]:
+        for case in [("ring", (-1, 1), 3, (0,)), ("walls", (-1, 1), 4, (3,)), ("ring", (0,), 3, (0, 2)),
+                     ("ring", (-6, 1), 2, (1,)), ("ring", (0,), 1, (0,)), ("ring", (0,), 2, (0, 1))]:
             values = [("all", beats) for beats in range(6)] + [("barred", row) for row in all_rows(case[2])]
             check_shows(self, shows_steers_all, case, right_steers, values)
 

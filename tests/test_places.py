@@ -54,7 +54,8 @@ class TellsAll(unittest.TestCase):
 
     def test_shows(self):
         for kind, rule, size, places in [("ring", (-1, 1), 3, (0,)), ("walls", (-1, 1), 3, (1,)), ("walls", (-1, 1), 4, (3,)),
-                                         ("ring", (0,), 4, (0, 2)), ("ring", (-6, 1), 4, (1,)), ("ring", (0,), 1, (0,))]:
+                                         ("ring", (0,), 4, (0, 2)), ("ring", (-6, 1), 4, (1,)), ("ring", (0,), 1, (0,)),
+                                         ("ring", (0,), 3, (0, 1, 2))]:
             values = [("all", beats) for beats in range(6)] + [("unseen", row) for row in all_rows(size)]
             check_shows(self, shows_tells_all, (kind, rule, size, places), right_tells, values)
 
@@ -128,7 +129,8 @@ class FewestPlaces(unittest.TestCase):
             self.assertGreaterEqual(len(told[0]), bar(kind, rule, 10)[0])
 
     def test_shows(self):
-        for kind, rule, size in [("ring", (-1, 1), 3), ("walls", (-1, 1), 2), ("ring", (0,), 2), ("ring", (1,), 3)]:
+        for kind, rule, size in [("ring", (-1, 1), 3), ("walls", (-1, 1), 2), ("ring", (0,), 2), ("ring", (1,), 3),
+                                 ("walls", (-1, 1), 3), ("ring", (-2, 2), 4)]:
             places, reasons = fewest_places(kind, rule, size)
             values = [(lot, reasons) for lot in [()] + all_places(size)]
             for row in all_rows(size):

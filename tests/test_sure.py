@@ -86,6 +86,12 @@ class Sure(unittest.TestCase):
         self.assertEqual(lots, [(0,), (1,), (3,), (0, 1, 3)])
         self.assertIs(shows_sure(looks, 9, 0, ("sure", True, (0,))), False)
         self.assertIs(shows_sure(looks, 9, 0, ("sure", 0, (0,))), False)
+        self.assertIs(shows_sure(looks, 9, 1, ("sure", 0, (2,))), True)
+        for value in (2, 4, -1, -2, 3, False):
+            self.assertIs(shows_sure(looks, 9, 1, ("sure", value, (2,))), False)
+        dark = Looks("kind ring\nsize 1\nrule 0\nlook 0 0 0")
+        for value in (2, 4, -1, -2, 3, False, 0):
+            self.assertIs(shows_sure(dark, 9, 0, ("sure", value, (0,))), repr(value) == "0")
 
     def test_sixteen_lamps(self):
         looks = Looks(looks_text("ring", (-6, -1, 2), 16, [(10 ** 30 - at, at, 0) for at in range(12)]))

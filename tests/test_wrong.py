@@ -108,6 +108,9 @@ class LeastWrong(unittest.TestCase):
         self.assertIs(shows_least_wrong(two, told[:3] + (told[3][:2] + (((2,), (0, 2)),) + told[3][3:],)), False)
         self.assertIs(shows_least_wrong(two, told[:3] + (told[3][:2] + (((2,), (3, 4)),) + told[3][3:],)), True)
         self.assertIs(shows_least_wrong(two, told[:3] + (told[3][::-1],)), False)
+        for at, others in ((0, (False,)), (1, (True,)), (1, [1]), (1, 1), (1, ()), (1, (1, 1)), (1, (0,)), (1, ("1",))):
+            reason = (others, told[3][at][1])
+            self.assertIs(shows_least_wrong(two, told[:3] + (told[3][:at] + (reason,) + told[3][at + 1:],)), False)
 
     def test_refusals(self):
         for text in (TEXT, QUARREL):
